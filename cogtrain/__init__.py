@@ -1,0 +1,1 @@
+"""Cogtrain: wheels that turn one another."""
