@@ -44,6 +44,10 @@ class Package(unittest.TestCase):
                 self.assertTrue(all(sign == "\n" or " " <= sign <= "~" for sign in text))
                 self.assertLessEqual(len(text.splitlines()), 400)
                 self.assertTrue(all(len(line) <= 120 for line in text.splitlines()))
+            for node in ast.walk(ast.parse(text)):
+                if isinstance(node, ast.FunctionDef):
+                    with self.subTest(file=path.name, function=node.name):
+                        self.assertLessEqual(node.end_lineno - node.lineno + 1, 40)
 
 
 if __name__ == "__main__":
